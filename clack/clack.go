@@ -12,8 +12,9 @@ type Terminal struct {
 	settings api.Settings
 	in       input.Queue
 	out      output.Output
-	held     bool // the other side is to stand still
-	quotes   bool // the next byte that comes is laid down, whatever it is
+	signals  []int // noted since they were told last
+	held     bool  // the other side is to stand still
+	quotes   bool  // the next byte that comes is laid down, whatever it is
 }
 
 // New makes a terminal (P3).
@@ -34,6 +35,7 @@ func (t *Terminal) Set(s api.Settings, when int) api.Errno {
 		t.in.Clear()
 	}
 	t.change(known(s))
+	t.lookAfter()
 	return api.OK
 }
 
@@ -56,7 +58,20 @@ func (t *Terminal) Drain(n int) (string, api.Errno) {
 }
 
 // Receive takes in what comes (P7 to P9).
-func (t *Terminal) Receive(kind int, s string) api.Errno { return api.OK }
+func (t *Terminal) Receive(kind int, s string) api.Errno {
+	switch kind {
+	case api.Good:
+		t.eachCame(s, (*Terminal).goodCame)
+	case api.Parity:
+		t.eachCame(s, (*Terminal).wrongCame)
+	case api.Break:
+		t.breakCame()
+		t.lookAfter()
+	default:
+		return api.ErrKind
+	}
+	return api.OK
+}
 
 // Read begins to read (P10).
 func (t *Terminal) Read(n int) api.Errno { return api.OK }
@@ -74,7 +89,12 @@ func (t *Terminal) Flush(which int) api.Errno { return api.OK }
 func (t *Terminal) Flow(action int) api.Errno { return api.OK }
 
 // Signals tells the signals that there were (P12).
-func (t *Terminal) Signals() []int { return nil }
+func (t *Terminal) Signals() []int {
+	told := t.signals
+	// What is told belongs to who asked: nothing of it may be written to again.
+	t.signals = nil
+	return told
+}
 
 // Status tells how it stands (P12).
 func (t *Terminal) Status() api.Status {

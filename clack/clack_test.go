@@ -1,6 +1,7 @@
 package clack_test
 
 import (
+	"fmt"
 	"math"
 	"strings"
 	"testing"
@@ -138,6 +139,10 @@ func TestTerminalsDoNotKnowOfEachOther(t *testing.T) {
 	if s := x.Status(); s.Out != 256 || s.Column != 256 {
 		t.Errorf("P2: %+v", s)
 	}
+	x.Receive(api.Good, "\x13\x03ab\x16")
+	if s := y.Status(); s != (api.Status{Column: 1}) || len(y.Signals()) != 0 {
+		t.Errorf("P2: what came to another one changed it: %+v", s)
+	}
 }
 
 func TestSameCallsSameAnswers(t *testing.T) {
@@ -146,8 +151,9 @@ func TestSameCallsSameAnswers(t *testing.T) {
 		var told []string
 		for i := range 40 {
 			x.Write(allBytes()[i:])
+			x.Receive(i%3, allBytes()[6*i:])
 			sent, _ := x.Drain(7 * i)
-			told = append(told, sent)
+			told = append(told, sent, fmt.Sprint(x.Signals(), x.Status()))
 		}
 		return told
 	}

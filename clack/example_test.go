@@ -7,8 +7,8 @@ import (
 	"clack/clack"
 )
 
-// The use that README.md shows.
-func ExampleTerminal() {
+// What README.md shows of what goes out.
+func ExampleTerminal_Write() {
 	t := clack.New()
 	s := t.Get()
 	s.Out |= api.Tabs
@@ -26,4 +26,35 @@ func ExampleTerminal() {
 	// {In:0 Out:11 Column:0 Stopped:false Held:false Quoted:false}
 	// "a       b\r\n" 0
 	// "" 2
+}
+
+// What README.md shows of what comes in.
+func ExampleTerminal_Receive() {
+	t := clack.New()
+	fmt.Println(t.Receive(api.Good, "ab\x7fc\r"))
+	fmt.Printf("%+v\n", t.Status())
+	sent, _ := t.Drain(99)
+	fmt.Printf("%q\n", sent)
+
+	t.Receive(api.Good, "x\x13")
+	sent, _ = t.Drain(99)
+	fmt.Printf("%q\n", sent)
+	t.Receive(api.Good, "\x11")
+	sent, _ = t.Drain(99)
+	fmt.Printf("%q\n", sent)
+
+	t.Receive(api.Good, "\x03")
+	fmt.Println(t.Signals(), t.Signals())
+	sent, _ = t.Drain(99)
+	fmt.Printf("%q\n", sent)
+	fmt.Println(t.Receive(3, "a"))
+	// Output:
+	// 0
+	// {In:3 Out:8 Column:0 Stopped:false Held:false Quoted:false}
+	// "ab\b \bc\r\n"
+	// ""
+	// "x"
+	// [1] []
+	// "^C"
+	// 1
 }

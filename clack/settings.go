@@ -1,6 +1,9 @@
 package clack
 
-import "clack/api"
+import (
+	"clack/api"
+	"clack/flags"
+)
 
 // firstSettings tells the settings of a new terminal.
 func firstSettings() api.Settings {
@@ -41,10 +44,10 @@ func known(s api.Settings) api.Settings {
 
 // change puts settings in force, with what follows from it for what came under the old ones.
 func (t *Terminal) change(s api.Settings) {
-	if (s.Local^t.settings.Local)&api.Lines != 0 {
+	if flags.Has(s.Local^t.settings.Local, api.Lines) {
 		t.in.ForgetLines()
 	}
-	if s.Local&api.Lines == 0 {
+	if !flags.Has(s.Local, api.Lines) {
 		t.quotes = false
 	}
 	t.settings = s

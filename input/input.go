@@ -9,11 +9,47 @@ type Entry struct {
 	Cells     int // by how many columns its echo moved the column
 }
 
+// IsGap tells whether the entry stands between words.
+func (e Entry) IsGap() bool { return e.Byte == ' ' || e.Byte == '\t' }
+
 // Queue has entries, the oldest first. Its zero value is empty.
 type Queue []Entry
 
 // Clear empties the queue.
 func (q *Queue) Clear() { *q = nil }
+
+// Add puts an entry behind all others.
+func (q *Queue) Add(e Entry) { *q = append(*q, e) }
+
+// Pending tells the pending line: the queue's own entries, so that their cells can be changed.
+func (q Queue) Pending() Queue {
+	n := len(q)
+	for n > 0 && !q[n-1].EndsLine {
+		n--
+	}
+	return q[n:]
+}
+
+// LastWord tells how many entries at the end of the pending line are its last word and the gap behind that.
+func (q Queue) LastWord() int {
+	line := q.Pending()
+	n := len(line)
+	for n > 0 && line[n-1].IsGap() {
+		n--
+	}
+	for n > 0 && !line[n-1].IsGap() {
+		n--
+	}
+	return len(line) - n
+}
+
+// RubOut removes the last n entries, of which there must be so many, and tells them; they are good until the next Add.
+func (q *Queue) RubOut(n int) Queue {
+	kept := len(*q) - n
+	gone := (*q)[kept:]
+	*q = (*q)[:kept]
+	return gone
+}
 
 // ForgetLines leaves of every entry its byte alone. Ends of a file have none, so they vanish.
 func (q *Queue) ForgetLines() {

@@ -34,6 +34,9 @@ func (o *Output) Stopped() bool { return o.stopped }
 // SetStopped keeps the output queue back, or lets it go on.
 func (o *Output) SetStopped(stopped bool) { o.stopped = stopped }
 
+// Clear empties the output queue. Urgent bytes stay, and so does the column: what was sent is not taken back.
+func (o *Output) Clear() { o.waiting = nil }
+
 // Urge makes bytes urgent, behind those that are so already.
 func (o *Output) Urge(urgent ...byte) { o.urgent = append(o.urgent, urgent...) }
 
@@ -46,9 +49,9 @@ func (o *Output) Send(n int) string {
 	return sent
 }
 
-// Put puts bytes out together by the flags of Out. It tells false, and leaves everything as it was, if there is no room for all of them.
-func (o *Output) Put(flags int, together ...byte) bool {
-	made, column := render(flags, o.column, together...)
+// Put puts bytes out together by the flags of what goes out. It tells false, and leaves everything as it was, if there is no room for all of them.
+func (o *Output) Put(out int, together ...byte) bool {
+	made, column := render(out, o.column, together...)
 	if len(o.waiting)+len(made) > api.MaxOut {
 		return false
 	}

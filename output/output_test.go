@@ -191,3 +191,18 @@ func TestUrgentNeedNoRoom(t *testing.T) {
 		t.Errorf("P6: Send(2) = %q", sent)
 	}
 }
+
+func TestClearLeavesTheRest(t *testing.T) {
+	o := full(t, 3)
+	o.Urge(19)
+	o.SetStopped(true)
+	o.Clear()
+	o.Clear()
+	if o.Len() != 0 || o.Column() != 3 || !o.Stopped() {
+		t.Errorf("P7: emptied: %d bytes, column %d, stopped %v", o.Len(), o.Column(), o.Stopped())
+	}
+	o.SetStopped(false)
+	if sent := o.Send(9); sent != "\x13" {
+		t.Errorf("P7: emptied, it sent %q", sent)
+	}
+}
