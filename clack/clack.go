@@ -12,6 +12,7 @@ type Terminal struct {
 	settings api.Settings
 	in       input.Queue
 	out      output.Output
+	read     reading
 	signals  []int // noted since they were told last
 	held     bool  // the other side is to stand still
 	quotes   bool  // the next byte that comes is laid down, whatever it is
@@ -57,7 +58,7 @@ func (t *Terminal) Drain(n int) (string, api.Errno) {
 	return t.out.Send(n), api.OK
 }
 
-// Receive takes in what comes (P7 to P9).
+// Receive takes in what comes (P7 to P10).
 func (t *Terminal) Receive(kind int, s string) api.Errno {
 	switch kind {
 	case api.Good:
@@ -74,13 +75,36 @@ func (t *Terminal) Receive(kind int, s string) api.Errno {
 }
 
 // Read begins to read (P10).
-func (t *Terminal) Read(n int) api.Errno { return api.OK }
+func (t *Terminal) Read(n int) api.Errno {
+	if n < 1 || n > mostToRead {
+		return api.ErrSize
+	}
+	if t.read.isThere() {
+		return api.ErrBusy
+	}
+	t.read = reading{most: n}
+	t.lookAfter()
+	return api.OK
+}
 
 // Take tells what was read (P10).
-func (t *Terminal) Take() (string, bool, api.Errno) { return "", false, api.OK }
+func (t *Terminal) Take() (string, bool, api.Errno) {
+	if !t.read.isThere() {
+		return "", false, api.ErrNone
+	}
+	if !t.read.ended {
+		return "", false, api.OK
+	}
+	has := t.read.has
+	t.read = reading{}
+	return has, true, api.OK
+}
 
 // Tick lets a tenth of a second pass (P10).
-func (t *Terminal) Tick() {}
+func (t *Terminal) Tick() {
+	t.read.tick()
+	t.lookAfter()
+}
 
 // Flush throws away what waits (P11).
 func (t *Terminal) Flush(which int) api.Errno { return api.OK }

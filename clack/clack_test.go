@@ -54,7 +54,9 @@ func TestEveryCallEnds(t *testing.T) {
 				x.Write(s)
 				x.Receive(m, s)
 			}
-			x.Take()
+			if s, ended, e := x.Take(); e != api.OK && (s != "" || ended) {
+				t.Errorf("P1: Take = %q, %v, %d", s, ended, e)
+			}
 			x.Tick()
 			x.Flow(m)
 			x.Flush(m)
@@ -86,6 +88,10 @@ func TestErrorsChangeNothing(t *testing.T) {
 		{"Set(Flush)", func() api.Errno { return x.Set(api.Settings{}, api.Flush) }, api.ErrBusy},
 		{"Drain(-1)", func() api.Errno { _, e := x.Drain(-1); return e }, api.ErrSize},
 		{"Drain(MinInt)", func() api.Errno { _, e := x.Drain(math.MinInt); return e }, api.ErrSize},
+		{"Take()", func() api.Errno { _, _, e := x.Take(); return e }, api.ErrNone},
+		{"Read(0)", func() api.Errno { return x.Read(0) }, api.ErrSize},
+		{"Read(257)", func() api.Errno { return x.Read(257) }, api.ErrSize},
+		{"Take() behind them", func() api.Errno { _, _, e := x.Take(); return e }, api.ErrNone},
 	} {
 		if e := c.call(); e != c.want {
 			t.Errorf("P1: %s = %d, want %d", c.name, e, c.want)
@@ -153,7 +159,10 @@ func TestSameCallsSameAnswers(t *testing.T) {
 			x.Write(allBytes()[i:])
 			x.Receive(i%3, allBytes()[6*i:])
 			sent, _ := x.Drain(7 * i)
-			told = append(told, sent, fmt.Sprint(x.Signals(), x.Status()))
+			told = append(told, sent, fmt.Sprint(x.Read(1+5*i), x.Signals(), x.Status()))
+			x.Tick()
+			read, ended, e := x.Take()
+			told = append(told, fmt.Sprint(read, ended, e, x.Status()))
 		}
 		return told
 	}
@@ -179,6 +188,9 @@ func TestNewTerminal(t *testing.T) {
 	}
 	if signals := x.Signals(); len(signals) != 0 {
 		t.Errorf("P3: Signals = %v", signals)
+	}
+	if s, ended, e := x.Take(); s != "" || ended || e != api.ErrNone {
+		t.Errorf("P3: Take = %q, %v, %d", s, ended, e)
 	}
 	if x == clack.New() {
 		t.Errorf("P3: New told the same terminal twice")

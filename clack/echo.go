@@ -32,6 +32,7 @@ func (t *Terminal) enter(e input.Entry) {
 		e.Cells = t.echo(e.Byte)
 	}
 	t.in.Add(e)
+	t.read.wait = 0
 }
 
 // mostEntries tells how many entries there must not be yet where this one comes. The last one is kept for the end of a line, so that a line that is too long can be ended.

@@ -58,3 +58,39 @@ func ExampleTerminal_Receive() {
 	// "^C"
 	// 1
 }
+
+// What README.md shows of reading.
+func ExampleTerminal_Read() {
+	t := clack.New()
+	show := func(s string, ended bool, e api.Errno) { fmt.Printf("%q %v %d\n", s, ended, e) }
+	show(t.Take())
+	fmt.Println(t.Read(9))
+	t.Receive(api.Good, "ab")
+	show(t.Take())
+	t.Receive(api.Good, "c\rd\x04")
+	show(t.Take())
+	fmt.Println(t.Read(9))
+	show(t.Take())
+	fmt.Println(t.Read(0))
+
+	s := t.Get()
+	s.Local &^= api.Lines
+	s.Chars[api.Min], s.Chars[api.Time] = 3, 2
+	t.Set(s, api.Now)
+	t.Read(9)
+	t.Receive(api.Good, "x")
+	t.Tick()
+	show(t.Take())
+	t.Tick()
+	show(t.Take())
+	// Output:
+	// "" false 4
+	// 0
+	// "" false 0
+	// "abc\n" true 0
+	// 0
+	// "d" true 0
+	// 2
+	// "" false 0
+	// "x" true 0
+}

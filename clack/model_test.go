@@ -1,6 +1,7 @@
 package clack
 
 import (
+	"fmt"
 	"math/rand/v2"
 	"slices"
 	"strings"
@@ -11,13 +12,16 @@ import (
 	"clack/output"
 )
 
-// model is P4 and P7 to P9 of the document, word by word and without tables; P5 and P6 are those of package output.
+// model is P4 and P7 to P10 of the document, word by word and without tables; P5 and P6 are those of package output.
 type model struct {
 	output.Output
 	s            api.Settings
 	queue        []input.Entry
 	held, quotes bool
 	signals      []int
+	size, wait   int // of the read; the size is 0 if there is none
+	ended        bool
+	got          string
 }
 
 func (m *model) in(flag int) bool      { return m.s.In&flag != 0 }
@@ -41,7 +45,77 @@ func (m *model) pending() int {
 	return len(m.queue)
 }
 
+func (m *model) canEnd() bool {
+	if m.local(api.Lines) {
+		return m.pending() < len(m.queue)
+	}
+	a, least, time := len(m.queue), m.s.Chars[api.Min], m.s.Chars[api.Time]
+	if least == 0 && time == 0 {
+		return true
+	}
+	if least == 0 {
+		return a >= 1 || m.wait >= time
+	}
+	lesser := least
+	if m.size < least {
+		lesser = m.size
+	}
+	if time == 0 {
+		return a >= lesser
+	}
+	return a >= lesser || a >= 1 && m.wait >= time
+}
+
+func (m *model) endRead() {
+	if m.size == 0 || m.ended || !m.canEnd() {
+		return
+	}
+	m.ended = true
+	for len(m.queue) > 0 {
+		e := m.queue[0]
+		if !e.EndOfFile && len(m.got) == m.size {
+			return
+		}
+		m.queue = m.queue[1:]
+		if !e.EndOfFile {
+			m.got += string([]byte{e.Byte})
+		}
+		if e.EndsLine {
+			return
+		}
+	}
+}
+
+func (m *model) read(n int) api.Errno {
+	if n < 1 || n > 256 {
+		return api.ErrSize
+	}
+	if m.size != 0 {
+		return api.ErrBusy
+	}
+	m.size, m.wait, m.ended, m.got = n, 0, false, ""
+	m.behind()
+	return api.OK
+}
+
+func (m *model) take() (string, bool, api.Errno) {
+	if m.size == 0 {
+		return "", false, api.ErrNone
+	}
+	if !m.ended {
+		return "", false, api.OK
+	}
+	m.size = 0
+	return m.got, true, api.OK
+}
+
+func (m *model) tick() {
+	m.wait++
+	m.behind()
+}
+
 func (m *model) behind() {
+	m.endRead()
 	if m.in(api.FlowIn) && !m.held && len(m.queue) >= 192 {
 		m.held = true
 		if m.s.Chars[api.Stop] != 0 {
@@ -103,6 +177,7 @@ func (m *model) lay(e input.Entry) {
 		e.Cells = m.echo(e.Byte)
 	}
 	m.queue = append(m.queue, e)
+	m.wait = 0
 }
 
 func (m *model) layAll(s string) {
@@ -306,12 +381,15 @@ func changed(r *rand.Rand, s api.Settings) api.Settings {
 	if r.IntN(3) == 0 {
 		s.Chars[r.IntN(api.Places)] = int(some(r, 1)[0])
 	}
+	if r.IntN(2) == 0 {
+		s.Chars[api.Min+r.IntN(2)] = r.IntN(5)
+	}
 	return s
 }
 
 // step makes one call of both, and tells what they answered.
 func step(r *rand.Rand, x *Terminal, m *model) (string, string) {
-	switch r.IntN(10) {
+	switch r.IntN(16) {
 	case 0:
 		s := changed(r, m.s)
 		x.Set(s, api.Now)
@@ -335,6 +413,15 @@ func step(r *rand.Rand, x *Terminal, m *model) (string, string) {
 		s := strings.Repeat(some(r, 1), r.IntN(200))
 		x.Receive(api.Good, s)
 		m.receive(api.Good, s)
+	case 6, 7:
+		x.Tick()
+		m.tick()
+	case 8, 9:
+		// Most are small, so that parts of lines are read.
+		n := r.IntN(1 << r.IntN(10))
+		return fmt.Sprint(x.Read(n)), fmt.Sprint(m.read(n))
+	case 10, 11:
+		return fmt.Sprintf("%q %v %d", three(x.Take())...), fmt.Sprintf("%q %v %d", three(m.take())...)
 	default:
 		s := some(r, r.IntN(9))
 		x.Receive(api.Good, s)
@@ -343,16 +430,19 @@ func step(r *rand.Rand, x *Terminal, m *model) (string, string) {
 	return "", ""
 }
 
+// three are what Take answers, as values to be printed.
+func three(s string, ended bool, e api.Errno) []any { return []any{s, ended, e} }
+
 func TestAgainstTheDocumentWordByWord(t *testing.T) {
 	for seed := range uint64(400) {
 		r := rand.New(rand.NewPCG(seed, 7))
 		x := New()
 		m := &model{s: x.Get()}
 		for i := range 250 {
-			sent, want := step(r, x, m)
+			told, want := step(r, x, m)
 			status := api.Status{In: len(m.queue), Out: m.Len(), Column: m.Column(), Stopped: m.Stopped(), Held: m.held, Quoted: m.quotes}
-			if sent != want || x.Status() != status {
-				t.Fatalf("P7 to P9: run %d, call %d: sent %q, %+v; want %q, %+v", seed, i, sent, x.Status(), want, status)
+			if told != want || x.Status() != status {
+				t.Fatalf("P6 to P10: run %d, call %d: told %q, %+v; want %q, %+v", seed, i, told, x.Status(), want, status)
 			}
 			if !slices.Equal(x.in, m.queue) {
 				t.Fatalf("P7, P8: run %d, call %d: entries %+v; want %+v", seed, i, x.in, m.queue)

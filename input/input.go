@@ -1,6 +1,8 @@
 // Package input keeps what came in and waits to be read.
 package input
 
+import "slices"
+
 // Entry is one thing of the input queue: a byte, or the end of a file, which has no byte.
 type Entry struct {
 	Byte      byte
@@ -49,6 +51,33 @@ func (q *Queue) RubOut(n int) Queue {
 	gone := (*q)[kept:]
 	*q = (*q)[:kept]
 	return gone
+}
+
+// FirstLine tells how many entries the first line has, up to the one that ends it; 0, if none does.
+func (q Queue) FirstLine() int {
+	return 1 + slices.IndexFunc(q, func(e Entry) bool { return e.EndsLine })
+}
+
+// TakeLine removes the first line, or of a longer one the first n bytes, and tells the bytes. An end of a file goes with the last byte of its line: left behind it would be taken for an empty line.
+func (q *Queue) TakeLine(n int) string {
+	line := (*q)[:q.FirstLine()]
+	if n < len(line) && line[n].EndOfFile {
+		n++
+	}
+	return q.Take(min(n, len(line)))
+}
+
+// Take removes the first n entries, or all if there are fewer, and tells the bytes of those that have one.
+func (q *Queue) Take(n int) string {
+	var taken []byte
+	n = min(n, len(*q))
+	for _, e := range (*q)[:n] {
+		if !e.EndOfFile {
+			taken = append(taken, e.Byte)
+		}
+	}
+	*q = (*q)[n:]
+	return string(taken)
 }
 
 // ForgetLines leaves of every entry its byte alone. Ends of a file have none, so they vanish.

@@ -102,3 +102,60 @@ func TestClear(t *testing.T) {
 		t.Errorf("P4: emptied, it has %+v", q)
 	}
 }
+
+// file is a queue of bytes, of which each '|' stands for a line's end, and each '$' for an end of a file.
+func file(s string) Queue {
+	q := line(s)
+	for i, e := range q {
+		if e.Byte == '$' {
+			q[i] = Entry{EndOfFile: true, EndsLine: true}
+		}
+	}
+	return q
+}
+
+func TestFirstLine(t *testing.T) {
+	for _, c := range []struct {
+		all string
+		n   int
+	}{{"", 0}, {"ab", 0}, {"|", 1}, {"$", 1}, {"ab|", 3}, {"ab|c|", 3}, {"ab$c|", 3}, {"||", 1}, {"$ab|", 1}, {"abc|d", 4}} {
+		if n := file(c.all).FirstLine(); n != c.n {
+			t.Errorf("P10: the first line of %q has %d entries, want %d", c.all, n, c.n)
+		}
+	}
+}
+
+func TestTakeLine(t *testing.T) {
+	for _, c := range []struct {
+		all         string
+		n           int
+		taken, left string
+	}{
+		{"", 1, "", ""}, {"ab", 5, "", "ab"},
+		{"ab|cd|", 9, "ab|", "cd|"}, {"ab|cd|", 3, "ab|", "cd|"}, {"ab|cd|", 2, "ab", "|cd|"}, {"ab|cd|", 1, "a", "b|cd|"},
+		{"|ab|", 1, "|", "ab|"}, {"|ab|", 9, "|", "ab|"}, {"ab|c", 9, "ab|", "c"},
+		{"$", 1, "", ""}, {"$ab|", 9, "", "ab|"}, {"$$", 1, "", "$"}, {"$|", 1, "", "|"},
+		{"ab$cd|", 9, "ab", "cd|"}, {"ab$cd|", 3, "ab", "cd|"}, {"ab$cd|", 2, "ab", "cd|"}, {"ab$cd|", 1, "a", "b$cd|"}, {"ab$$", 2, "ab", "$"},
+		{"ab|$", 3, "ab|", "$"}, {"ab|$", 2, "ab", "|$"}, {"ab|$", 4, "ab|", "$"},
+	} {
+		all := file(c.all)
+		q := slices.Clone(all)
+		if taken := q.TakeLine(c.n); taken != c.taken || !slices.Equal(q, all[len(all)-len(c.left):]) {
+			t.Errorf("P10: TakeLine(%d) of %q is %q, left %+v; want %q, %q", c.n, c.all, taken, q, c.taken, c.left)
+		}
+	}
+}
+
+func TestTake(t *testing.T) {
+	all := line("abc")
+	for n, want := range []string{"", "a", "ab", "abc", "abc", "abc"} {
+		q := slices.Clone(all)
+		if taken := q.Take(n); taken != want || !slices.Equal(q, all[len(want):]) {
+			t.Errorf("P10: Take(%d) is %q, left %+v", n, taken, q)
+		}
+		q.Add(Entry{Byte: 'z'})
+		if len(q) != 4-len(want) || q[len(q)-1].Byte != 'z' {
+			t.Errorf("P10: behind Take(%d): %+v", n, q)
+		}
+	}
+}
