@@ -107,10 +107,37 @@ func (t *Terminal) Tick() {
 }
 
 // Flush throws away what waits (P11).
-func (t *Terminal) Flush(which int) api.Errno { return api.OK }
+func (t *Terminal) Flush(which int) api.Errno {
+	switch which {
+	case api.Input:
+		t.in.Clear()
+	case api.Output:
+		t.out.Clear()
+	case api.Both:
+		t.emptyBoth()
+	default:
+		return api.ErrKind
+	}
+	t.lookAfter()
+	return api.OK
+}
 
 // Flow stops and starts (P11).
-func (t *Terminal) Flow(action int) api.Errno { return api.OK }
+func (t *Terminal) Flow(action int) api.Errno {
+	switch action {
+	case api.Hold:
+		t.out.SetStopped(true)
+	case api.Go:
+		t.out.SetStopped(false)
+	case api.SendStop:
+		t.urge(api.Stop)
+	case api.SendStart:
+		t.urge(api.Start)
+	default:
+		return api.ErrKind
+	}
+	return api.OK
+}
 
 // Signals tells the signals that there were (P12).
 func (t *Terminal) Signals() []int {
@@ -130,6 +157,12 @@ func (t *Terminal) Status() api.Status {
 		Held:    t.held,
 		Quoted:  t.quotes,
 	}
+}
+
+// emptyBoth empties both queues. What is urgent stays, and so does the read: neither is of a queue.
+func (t *Terminal) emptyBoth() {
+	t.in.Clear()
+	t.out.Clear()
 }
 
 // putOut puts bytes out together, by the settings; it tells whether there was room.

@@ -91,6 +91,10 @@ func TestErrorsChangeNothing(t *testing.T) {
 		{"Take()", func() api.Errno { _, _, e := x.Take(); return e }, api.ErrNone},
 		{"Read(0)", func() api.Errno { return x.Read(0) }, api.ErrSize},
 		{"Read(257)", func() api.Errno { return x.Read(257) }, api.ErrSize},
+		{"Flush(0)", func() api.Errno { return x.Flush(0) }, api.ErrKind},
+		{"Flush(4)", func() api.Errno { return x.Flush(4) }, api.ErrKind},
+		{"Flow(0)", func() api.Errno { return x.Flow(0) }, api.ErrKind},
+		{"Flow(5)", func() api.Errno { return x.Flow(5) }, api.ErrKind},
 		{"Take() behind them", func() api.Errno { _, _, e := x.Take(); return e }, api.ErrNone},
 	} {
 		if e := c.call(); e != c.want {
@@ -146,8 +150,22 @@ func TestTerminalsDoNotKnowOfEachOther(t *testing.T) {
 		t.Errorf("P2: %+v", s)
 	}
 	x.Receive(api.Good, "\x13\x03ab\x16")
+	x.Flow(api.SendStop)
+	if sent, _ := y.Drain(9); sent != "" {
+		t.Errorf("P2: another one's Flow made %q urgent", sent)
+	}
 	if s := y.Status(); s != (api.Status{Column: 1}) || len(y.Signals()) != 0 {
 		t.Errorf("P2: what came to another one changed it: %+v", s)
+	}
+}
+
+func TestFlushAndFlowAreOfTheirOwnTerminal(t *testing.T) {
+	x, y := clack.New(), clack.New()
+	y.Receive(api.Good, "ab\n")
+	x.Flow(api.Hold)
+	x.Flush(api.Both)
+	if s := y.Status(); s != (api.Status{In: 3, Out: 4}) {
+		t.Errorf("P2: another one's Flow and Flush changed it: %+v", s)
 	}
 }
 
@@ -163,6 +181,7 @@ func TestSameCallsSameAnswers(t *testing.T) {
 			x.Tick()
 			read, ended, e := x.Take()
 			told = append(told, fmt.Sprint(read, ended, e, x.Status()))
+			told = append(told, fmt.Sprint(x.Flow(i%6), x.Flush(i%11), x.Status()))
 		}
 		return told
 	}

@@ -94,3 +94,31 @@ func ExampleTerminal_Read() {
 	// "" false 0
 	// "x" true 0
 }
+
+// What README.md shows of flush and flow.
+func ExampleTerminal_Flow() {
+	t := clack.New()
+	t.Receive(api.Good, "ab\rc")
+	fmt.Println(t.Flow(api.Hold))
+	show := func(sent string, e api.Errno) { fmt.Printf("%q %d\n", sent, e) }
+	show(t.Drain(99))
+	t.Flow(api.SendStop)
+	show(t.Drain(99))
+	t.Flow(api.Go)
+	show(t.Drain(3))
+
+	fmt.Println(t.Flush(api.Output))
+	fmt.Printf("%+v\n", t.Status())
+	t.Flush(api.Input)
+	fmt.Printf("%+v\n", t.Status())
+	fmt.Println(t.Flush(0), t.Flow(5))
+	// Output:
+	// 0
+	// "" 0
+	// "\x13" 0
+	// "ab\r" 0
+	// 0
+	// {In:4 Out:0 Column:1 Stopped:false Held:false Quoted:false}
+	// {In:0 Out:0 Column:1 Stopped:false Held:false Quoted:false}
+	// 1 1
+}

@@ -12,7 +12,7 @@ import (
 	"clack/output"
 )
 
-// model is P4 and P7 to P10 of the document, word by word and without tables; P5 and P6 are those of package output.
+// model is P4 and P7 to P11 of the document, word by word and without tables; P5 and P6 are those of package output.
 type model struct {
 	output.Output
 	s            api.Settings
@@ -130,7 +130,16 @@ func (m *model) behind() {
 	}
 }
 
-func (m *model) set(s api.Settings) {
+func (m *model) set(s api.Settings, when int) api.Errno {
+	if when < 0 || when > 2 {
+		return api.ErrKind
+	}
+	if when > 0 && m.Len() > 0 {
+		return api.ErrBusy
+	}
+	if when == api.Flush {
+		m.queue = nil
+	}
 	old := m.s
 	m.s = s
 	if old.Local&api.Lines != s.Local&api.Lines {
@@ -144,6 +153,38 @@ func (m *model) set(s api.Settings) {
 		m.quotes = false
 	}
 	m.behind()
+	return api.OK
+}
+
+func (m *model) flush(which int) api.Errno {
+	if which < 1 || which > 3 {
+		return api.ErrKind
+	}
+	if which == api.Input || which == api.Both {
+		m.queue = nil
+	}
+	if which == api.Output || which == api.Both {
+		m.Clear()
+	}
+	m.behind()
+	return api.OK
+}
+
+func (m *model) flow(action int) api.Errno {
+	if action < 1 || action > 4 {
+		return api.ErrKind
+	}
+	if action == api.Hold || action == api.Go {
+		m.SetStopped(action == api.Hold)
+	}
+	if stop := m.s.Chars[api.Stop]; action == api.SendStop && stop != 0 {
+		m.Urge(byte(stop))
+	}
+	if start := m.s.Chars[api.Start]; action == api.SendStart && start != 0 {
+		m.Urge(byte(start))
+	}
+	m.behind()
+	return api.OK
 }
 
 func (m *model) echo(b byte) int {
@@ -389,11 +430,11 @@ func changed(r *rand.Rand, s api.Settings) api.Settings {
 
 // step makes one call of both, and tells what they answered.
 func step(r *rand.Rand, x *Terminal, m *model) (string, string) {
-	switch r.IntN(16) {
+	switch r.IntN(18) {
 	case 0:
 		s := changed(r, m.s)
-		x.Set(s, api.Now)
-		m.set(s)
+		when := max(r.IntN(8)-4, api.Now)
+		return fmt.Sprint(x.Set(s, when)), fmt.Sprint(m.set(s, when))
 	case 1:
 		s := strings.Repeat("w", r.IntN(40))
 		x.Write(s)
@@ -422,6 +463,12 @@ func step(r *rand.Rand, x *Terminal, m *model) (string, string) {
 		return fmt.Sprint(x.Read(n)), fmt.Sprint(m.read(n))
 	case 10, 11:
 		return fmt.Sprintf("%q %v %d", three(x.Take())...), fmt.Sprintf("%q %v %d", three(m.take())...)
+	case 12:
+		which := r.IntN(5)
+		return fmt.Sprint(x.Flush(which)), fmt.Sprint(m.flush(which))
+	case 13:
+		action := r.IntN(6)
+		return fmt.Sprint(x.Flow(action)), fmt.Sprint(m.flow(action))
 	default:
 		s := some(r, r.IntN(9))
 		x.Receive(api.Good, s)
@@ -442,13 +489,13 @@ func TestAgainstTheDocumentWordByWord(t *testing.T) {
 			told, want := step(r, x, m)
 			status := api.Status{In: len(m.queue), Out: m.Len(), Column: m.Column(), Stopped: m.Stopped(), Held: m.held, Quoted: m.quotes}
 			if told != want || x.Status() != status {
-				t.Fatalf("P6 to P10: run %d, call %d: told %q, %+v; want %q, %+v", seed, i, told, x.Status(), want, status)
+				t.Fatalf("P6 to P11: run %d, call %d: told %q, %+v; want %q, %+v", seed, i, told, x.Status(), want, status)
 			}
 			if !slices.Equal(x.in, m.queue) {
 				t.Fatalf("P7, P8: run %d, call %d: entries %+v; want %+v", seed, i, x.in, m.queue)
 			}
 			if len(x.in) > api.MaxIn || x.out.Len() > api.MaxOut {
-				t.Fatalf("P7: run %d, call %d: %+v", seed, i, x.Status())
+				t.Fatalf("P13: run %d, call %d: %+v", seed, i, x.Status())
 			}
 			if i%20 == 0 {
 				if l := x.Signals(); !slices.Equal(l, m.signals) {

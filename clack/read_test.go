@@ -301,6 +301,8 @@ func TestTheWaitBeginsAnew(t *testing.T) {
 		{"a signal", func(x *Terminal) { reset(t, x, local(api.NoFlush)); x.Receive(api.Good, "\x03") }, false},
 		{"Write and Drain", func(x *Terminal) { x.Write("w"); x.Drain(9) }, false},
 		{"Set", func(x *Terminal) { x.Set(x.Get(), api.Now) }, false},
+		{"Flush of the output queue", func(x *Terminal) { x.Flush(api.Output) }, false},
+		{"Flow", func(x *Terminal) { x.Flow(api.Hold); x.Flow(api.Go); x.Flow(api.SendStop); x.Flow(api.SendStart) }, false},
 		{"Take of a read that goes on", func(x *Terminal) { x.Take() }, false},
 		{"a Read that is refused", func(x *Terminal) { x.Read(5); x.Read(0) }, false},
 		{"telling", func(x *Terminal) { x.Get(); x.Status(); x.Signals() }, false},

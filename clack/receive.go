@@ -101,8 +101,7 @@ func raise(signal int) func(*Terminal, byte) {
 func (t *Terminal) signal(signal int) {
 	t.signals = append(t.signals, signal)
 	if !flags.Has(t.settings.Local, api.NoFlush) {
-		t.in.Clear()
-		t.out.Clear()
+		t.emptyBoth()
 		t.quotes = false
 	}
 }
